@@ -1,0 +1,1 @@
+"""Where programs over one small state may be paused while others go on."""
