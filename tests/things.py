@@ -54,3 +54,10 @@ def all_rows(shape):
         free = [j for j in range(len(shape)) if j not in changed(action)]
         found += [(action, conditions) for conditions in all_conditions(shape, free)]
     return found
+
+
+# Objects of every kind that "any object" may be.
+ANYTHING = NO_TUPLES + [
+    (), (0,), (1,), (0, 0), (True,), (None,), ("a",), ((0,),), ([0],), (0, "0"), (HUGE, 0), [True],
+    [None], ["0"], [(0,)], [-1], [HUGE], nested(0, 20, tuple), nested(1, 20, list),
+]
