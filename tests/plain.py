@@ -49,9 +49,22 @@ def rows_of(shape, losing):
     return [one for one in all_rows(shape) if losing or not row_loses(shape, one)]
 
 
-def some_program(rng, shape, most_rows, *, losing=False, most_pauses=8, least_rows=0):
-    many = rng.randint(least_rows, most_rows)
-    rows = tuple(rng.choice(rows_of(shape, losing)) for _ in range(many))
+@lru_cache(maxsize=None)
+def rows_with(shape, word):
+    """Rows with a word that do something, most of them often."""
+    return [one for one in all_rows(shape) if one[0][0] == word and one[0][-1] != 0 and len(one[1]) < 2]
+
+
+def some_row(rng, shape, losing):
+    if rng.random() < 0.2:
+        return rng.choice(rows_of(shape, losing))
+    words = [word for word in ("add", "mix", "swap") if rows_with(shape, word)]
+    return rng.choice(rows_with(shape, rng.choice(words)))
+
+
+def some_program(rng, shape, most_rows, *, losing=False, most_pauses=8):
+    many = rng.randint(0, most_rows)
+    rows = tuple(some_row(rng, shape, losing) for _ in range(many))
     inner = list(range(1, many))
     chosen = rng.sample(inner, min(len(inner), rng.randint(0, most_pauses)))
     return Program(shape, rows, pauses=tuple(sorted(chosen)))
@@ -150,3 +163,40 @@ def pair_is_right(first, second, starts, one, other):
 
 def rng(seed):
     return random.Random(seed)
+
+
+def patterned(wishes, patterns):
+    """Two programs of which, from the start (0, 0, s), just the positions of pattern s clash.
+
+    wishes tells how many wishes they have; a pattern is a set of pairs (i, j) of a place
+    other than 0 of each: its index among the wishes, or their number for the end.
+    """
+    shape = (wishes[0] + 2, 2, len(patterns))
+    if len(patterns) == 1:
+        shape = shape[:2] + (2,)
+    first = Program(shape, (row("add", 0, 1),) * (wishes[0] + 1), pauses=tuple(range(1, wishes[0] + 1)))
+    rows, places, before = [], [], set()
+    for j in range(wishes[1] + 1):
+        # The second program's prefix adds 1 to the second digit where the pattern says so.
+        now = {(i, s) for s, pattern in enumerate(patterns) for i, k in pattern if k == j}
+        rows += [row("add", 1, 1, when=((0, i + 1), (2, s))) for i, s in sorted(now ^ before)]
+        if now == before:
+            rows.append(row("add", 1, 0))
+        places.append(len(rows))
+        before = now
+    return first, Program(shape, tuple(rows), pauses=tuple(places[:-1]))
+
+
+def some_pattern(source, wishes, *, ends=False, chance=None):
+    chance = source.random() if chance is None else chance
+    pairs = [(i, j) for i in range(wishes[0] + 1) for j in range(wishes[1] + 1) if (i, j) != wishes]
+    pattern = {pair for pair in pairs if source.random() < chance}
+    if not ends:
+        pattern = {(i, j) for i, j in pattern if i < wishes[0] and j < wishes[1]}
+    return pattern
+
+
+def clash_set(first, second, starts):
+    """All positions of two programs that clash from one of the starts."""
+    return {places for places in positions([first, second]) for start in starts
+            if len(order_ends([first, second], start, places)) > 1}

@@ -96,6 +96,8 @@ class RowsTest(ScriptCase):
                      "add 0 1 if 1 01", "where 01 1", "where 1 +1", "times 02", "times +2", "times -1"]:
             self.check_wrong_line(line)
         self.check_wrong_line("add 0 010", (32,))
+        self.check_wrong_line("add 0 \u0661")
+        self.check_wrong_line("add 0 \u00b9")
         self.check_wrong_line("add 0 0" + "1" * 70)
 
     def test_empty_lines(self):
