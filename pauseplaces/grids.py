@@ -3,7 +3,7 @@
 from pauseplaces.errors import BadWalk, Losing
 from pauseplaces.integers import is_within
 from pauseplaces.programs import after, first_losing, inverse_rows, log, stretch
-from pauseplaces.weavings import check_positions, check_start, stretch_counts
+from pauseplaces.weavings import check_positions, check_start, MOST_POSITIONS, stretch_counts
 
 
 class Prefixes:
@@ -30,6 +30,13 @@ def check_losing(programs):
     for at, program in enumerate(programs):
         if first_losing(program) is not None:
             raise Losing(at)
+
+
+def check_choice(programs, start, most=MOST_POSITIONS):
+    """Raise TooMany, Losing or BadState if the programs and the start are not as they must be."""
+    check_positions(programs, most)
+    check_losing(programs)
+    check_start(programs, start)
 
 
 def positions_of(programs):
@@ -77,20 +84,20 @@ def order_with_last(many, last):
 
 def grid(programs, start):
     """Return a dict from all positions to their states, or None if the choice is not right."""
-    found, clash = _settled(programs, start)
+    check_choice(programs, start)
+    found, clash = settle(programs, prefixes_of(programs), start)
     return found if clash is None else None
-
-
-def _settled(programs, start):
-    check_positions(programs)
-    check_losing(programs)
-    check_start(programs, start)
-    return settle(programs, prefixes_of(programs), start)
 
 
 def part(programs, start):
     """Return a position that clashes, two orders and two weavings that part, or None."""
-    clash = _settled(programs, start)[1]
+    check_choice(programs, start)
+    return part_from(programs, prefixes_of(programs), start)
+
+
+def part_from(programs, prefixes, start):
+    """Return what part does, of a choice that was checked and its prefixes."""
+    clash = settle(programs, prefixes, start)[1]
     if clash is None:
         return None
     places, i, j = clash
@@ -112,9 +119,7 @@ def _entries(counts):
 
 def walked(programs, start, walk):
     """Return the list of the states before and after each pair of a walk."""
-    check_positions(programs)
-    check_losing(programs)
-    check_start(programs, start)
+    check_choice(programs, start)
     if not isinstance(walk, list):
         raise BadWalk(0)
     executed = [0 for _ in programs]

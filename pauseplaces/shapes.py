@@ -26,6 +26,13 @@ def is_state(shape, thing):
     return all([is_within(digit, 0, base - 1) for base, digit in zip(shape, thing)])
 
 
+def is_digits(thing):
+    """Tell whether any object is a tuple of digits, as the states of all shapes are."""
+    # Whoever looks up any object among states asks this first: Python takes (True,) for
+    # (1,), and it cannot look up a tuple with a list in it.
+    return isinstance(thing, tuple) and all([is_within(digit, 0, _GREATEST_BASE - 1) for digit in thing])
+
+
 def states(shape):
     """Return the ascending list of all states of the shape."""
     found = [()]

@@ -8,20 +8,22 @@ from pauseplaces.weavings import check_positions, check_start
 
 def state_at(programs, start, places):
     """Return the state of a position, or None if it clashes."""
-    ends = _ends_of_orders(programs, start, places)
+    check_losing(programs)
+    check_start(programs, start)
+    ends = ends_of_orders(programs, start, places)
     return list(ends)[0] if len(ends) == 1 else None
 
 
 def orders_at(programs, start, places):
     """Return two orders of a position that lead to different states, or None if it goes."""
-    orders = list(_ends_of_orders(programs, start, places).values())
+    check_losing(programs)
+    check_start(programs, start)
+    orders = list(ends_of_orders(programs, start, places).values())
     return (orders[0], orders[1]) if len(orders) > 1 else None
 
 
-def _ends_of_orders(programs, start, places):
+def ends_of_orders(programs, start, places):
     """Return a dict from the states to which the orders of a position lead to one such order."""
-    check_losing(programs)
-    check_start(programs, start)
     prefixes = prefixes_of(programs)
     found = {}
     for order in permutations(range(len(programs))):

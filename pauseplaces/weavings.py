@@ -5,15 +5,15 @@ from pauseplaces.integers import is_within
 from pauseplaces.programs import after, stretch
 from pauseplaces.shapes import is_state
 
-_MOST_POSITIONS = 400
+MOST_POSITIONS = 400
 
 
-def check_positions(programs):
-    """Raise TooMany if the programs have too many positions."""
+def check_positions(programs, most=MOST_POSITIONS):
+    """Raise TooMany if the programs have more positions than the most."""
     many = 1
     for program in programs:
         many = many * len(program.places)
-    if many > _MOST_POSITIONS:
+    if many > most:
         raise TooMany()
 
 
@@ -32,19 +32,24 @@ def stretch_counts(programs):
 def fault(programs, weaving):
     """Return None if any object is a weaving, otherwise the index at which it fails."""
     check_positions(programs)
-    wrong = _first_wrong(programs, weaving)
+    wrong = _first_wrong(programs, weaving, ())
     if wrong is None and len(weaving) < sum(stretch_counts(programs)):
         return len(weaving)
     return wrong
 
 
-def _first_wrong(programs, thing):
-    """Return the index of the first entry without a stretch left, or None; 0 if it is no list."""
+def _first_wrong(programs, thing, rounds):
+    """Return the index of the first entry without a stretch left, or None; 0 if it is no list.
+
+    Programs with their index in rounds always have a stretch left.
+    """
     if not isinstance(thing, list):
         return 0
     left = stretch_counts(programs)
     for at, entry in enumerate(thing):
-        if not is_within(entry, 0, len(left) - 1) or left[entry] == 0:
+        if not is_within(entry, 0, len(left) - 1):
+            return at
+        if left[entry] == 0 and entry not in rounds:
             return at
         left[entry] -= 1
     return None
@@ -53,12 +58,13 @@ def _first_wrong(programs, thing):
 def position(programs, beginning):
     """Return the position of a beginning."""
     check_positions(programs)
-    _check_beginning(programs, beginning)
+    check_beginning(programs, beginning)
     return tuple([program.places[beginning.count(k)] for k, program in enumerate(programs)])
 
 
-def _check_beginning(programs, thing):
-    wrong = _first_wrong(programs, thing)
+def check_beginning(programs, thing, rounds=()):
+    """Raise BadWeaving if any object is no beginning, some programs running in rounds."""
+    wrong = _first_wrong(programs, thing, rounds)
     if wrong is not None:
         raise BadWeaving(wrong)
 
@@ -67,13 +73,20 @@ def woven(programs, start, beginning):
     """Return the list of the states before and after each entry."""
     check_positions(programs)
     check_start(programs, start)
-    _check_beginning(programs, beginning)
+    check_beginning(programs, beginning)
+    return states_along(programs, start, beginning)
+
+
+def states_along(programs, start, beginning):
+    """Return the list of the states before and after each entry, of a beginning in rounds too."""
+    counts = stretch_counts(programs)
     executed = [0 for _ in programs]
     found = [start]
     for entry in beginning:
         rows = stretch(programs[entry], executed[entry])
         found.append(after(programs[entry].shape, rows, found[-1]))
-        executed[entry] += 1
+        # Behind its last stretch a program in rounds goes on with its first one.
+        executed[entry] = (executed[entry] + 1) % counts[entry]
     return found
 
 

@@ -52,13 +52,15 @@ def rows_of(shape, losing):
 @lru_cache(maxsize=None)
 def rows_with(shape, word):
     """Rows with a word that do something, most of them often."""
-    return [one for one in all_rows(shape) if one[0][0] == word and one[0][-1] != 0 and len(one[1]) < 2]
+    return [one for one in all_rows(shape) if one[0][0] == word and len(one[1]) < 2
+            and (one[0][-1] != 0 or word in ("set", "copy"))]
 
 
 def some_row(rng, shape, losing):
     if rng.random() < 0.2:
         return rng.choice(rows_of(shape, losing))
-    words = [word for word in ("add", "mix", "swap") if rows_with(shape, word)]
+    words = ("add", "mix", "swap", "set", "copy") if losing else ("add", "mix", "swap")
+    words = [word for word in words if rows_with(shape, word)]
     return rng.choice(rows_with(shape, rng.choice(words)))
 
 
@@ -200,3 +202,67 @@ def clash_set(first, second, starts):
     """All positions of two programs that clash from one of the starts."""
     return {places for places in positions([first, second]) for start in starts
             if len(order_ends([first, second], start, places)) > 1}
+
+
+def point_21_at_the_end():
+    """The programs P and Q of the first example of point 21."""
+    P = Program((2,), (row("add", 0, 1), row("set", 0, 0)), pauses=(1,))
+    return [P, Program((2,), (row("set", 0, 0),))]
+
+
+def point_21_pauses(pauses):
+    """The programs P, with some pauses, and Q of the second example of point 21."""
+    shape = (4, 4, 2)
+    rows = (row("copy", 1, 0), row("mix", 2, 1, 1, when=((0, 2),)), row("set", 1, 0))
+    return [counting(3, pauses, shape), Program(shape, rows, pauses=(1,))]
+
+
+def choices(seed, many, *, losing):
+    """Lists of up to four programs with at most 6 stretches, each with a start."""
+    none, P = Program((2, 2), ()), Program((2, 2), (row("mix", 0, 1, 1), row("add", 1, 1)), pauses=(1,))
+    found = [([], (0, 1)), ([none], (1, 1)), ([none, none], (0, 1)), ([none, P, none], (0, 0)),
+             ([P] * 3, (0, 1)), ([counting(1, shape=(2, 2))] * 4, (1, 0))]
+    if losing:
+        clear = Program((2, 2), (row("set", 0, 0), row("copy", 1, 0)), pauses=(1,))
+        found += [([clear], (1, 1)), ([clear, clear], (0, 1)), ([clear, P, none], (1, 1)),
+                  (point_21_at_the_end(), (0,)), (point_21_pauses((1, 2)), (0, 0, 0))]
+    source = rng(seed)
+    for _ in range(many):
+        shape = source.choice([(2,), (2, 2), (3, 2), (4,), (4, 2, 2)])
+        count = source.randint(1, 4)
+        programs = some_programs(source, shape, count, 6 - count, losing=losing, most_pauses=6 // count - 1)
+        found.append((programs, some_state(source, shape)))
+    return found
+
+
+def woven_states(programs, start):
+    """A dict from all positions to the sets of their states, by executing all weavings."""
+    found = {places: set() for places in positions(programs)}
+    for weaving in all_weavings(programs):
+        for many, state in enumerate(weave(programs, start, weaving)):
+            found[beginning_position(programs, weaving[:many])].add(state)
+    return found
+
+
+def weave_rounds(programs, start, entries):
+    """The states before and after each entry of a beginning in rounds."""
+    executed = [0] * len(programs)
+    states = [start]
+    for k in entries:
+        at = executed[k] % (len(programs[k].places) - 1)
+        states.append(after_rows(programs[k].shape, stretch_rows(programs[k], at), states[-1]))
+        executed[k] += 1
+    return states
+
+
+def round_closure(programs, start, rounds):
+    """All states to which whole programs in rounds lead."""
+    found, new = {start}, [start]
+    while new:
+        state = new.pop()
+        for k in rounds:
+            end = after_rows(programs[k].shape, programs[k].rows, state)
+            if end not in found:
+                found.add(end)
+                new.append(end)
+    return found

@@ -35,6 +35,11 @@ INTERFACE = {
     "wishes": {"must_go": "first second starts", "least": "first second starts * prices",
                "numbers": "first second starts * prices",
                "fate": "first second starts which wish * prices"},
+    "losing": {"states_of": "programs start", "on_the_way": "programs start", "at_the_end": "programs start"},
+    "sequences": {"sequence_ends": "programs start", "unlike": "programs start",
+                  "way_to": "programs start places state"},
+    "rounds": {"round_states": "programs start rounds", "whole_way": "programs start rounds state",
+               "rounds_part": "programs start rounds", "round_woven": "programs start rounds beginning"},
 }
 # Where examples are run, "_" turns up among them.
 ALL_BUILTINS = set(dir(builtins)) - {"_"}
