@@ -125,7 +125,7 @@ def walked(programs, start, walk):
     executed = [0 for _ in programs]
     found = [start]
     for at, pair in enumerate(walk):
-        if not _can_go(programs, executed, pair):
+        if not can_go(programs, executed, pair):
             raise BadWalk(at)
         k, way = pair
         found.append(_moved(programs[k], executed[k], way, found[-1]))
@@ -133,7 +133,7 @@ def walked(programs, start, walk):
     return found
 
 
-def _can_go(programs, executed, thing):
+def can_go(programs, executed, thing):
     """Tell whether any object is a pair of a walk that can be done."""
     if not isinstance(thing, tuple) or len(thing) != 2:
         return False

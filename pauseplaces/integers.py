@@ -1,5 +1,7 @@
 """What counts as an integer, and how one is written."""
 
+_MOST_DIGITS = 80
+
 
 def is_within(thing, low, high):
     """Tell whether any object is an integer from low to high."""
@@ -8,10 +10,10 @@ def is_within(thing, low, high):
 
 
 def integer_of(word):
-    """Return the integer of one or two digits that a word writes, or None."""
-    # Wherever a text may have an integer, one of three digits is too great.
-    if len(word) > 2 or not word.isascii() or not word.isdigit():
+    """Return the integer that a word writes without a sign and leading zeros, or None."""
+    # No line has more digits, and Python refuses to read very many.
+    if len(word) > _MOST_DIGITS or not word.isascii() or not word.isdigit():
         return None
-    if len(word) == 2 and word[0] == "0":
+    if len(word) > 1 and word[0] == "0":
         return None
     return int(word)

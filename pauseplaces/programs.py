@@ -63,6 +63,11 @@ def _are_pauses(thing, end):
     return True
 
 
+def with_pauses(program, pauses):
+    """Return a program with the same rows and other pauses."""
+    return Program(program.shape, program.rows, pauses=pauses)
+
+
 def sum_of(one, other):
     """Return the program that does what the one does and then what the other does."""
     if one.shape != other.shape:

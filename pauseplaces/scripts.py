@@ -46,7 +46,7 @@ class Script:
             return self.finish()
         if words[0] in ("where", "times", "undo"):
             return self.begin(words[0], [integer_of(word) for word in words[1:]])
-        return self.take_row(_row_of(words))
+        return self.take_row(row_of(words))
 
     def begin(self, word, numbers):
         """Begin a block if the line is right; tell whether it is."""
@@ -144,7 +144,7 @@ def _contents(shape, block):
     return block.rows, block.pauses
 
 
-def _row_of(words):
+def row_of(words):
     """Return what is a row if the words are those of a row."""
     if "if" not in words:
         return _action_of(words), ()

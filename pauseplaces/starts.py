@@ -47,12 +47,19 @@ def left_out(programs, starts):
     prefixes = prefixes_of(programs)
     found = {}
     for start in starts:
-        clash = settle(programs, prefixes, start)[1]
+        clash = clashing_orders(programs, prefixes, start)
         if clash is not None:
-            places, i, j = clash
-            many = len(programs)
-            found[start] = (places, order_with_last(many, i), order_with_last(many, j))
+            found[start] = clash
     return found
+
+
+def clashing_orders(programs, prefixes, start):
+    """Return a position that clashes and two orders that lead to different states, or None."""
+    clash = settle(programs, prefixes, start)[1]
+    if clash is None:
+        return None
+    places, i, j = clash
+    return places, order_with_last(len(programs), i), order_with_last(len(programs), j)
 
 
 def clashes(first, second, starts):

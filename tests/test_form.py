@@ -38,6 +38,18 @@ INTERFACE = {
     "losing": {"states_of": "programs start", "on_the_way": "programs start", "at_the_end": "programs start"},
     "sequences": {"sequence_ends": "programs start", "unlike": "programs start",
                   "way_to": "programs start places state"},
+    "benches": {
+        "Bench.__init__": "self shape state", "Bench.let_in": "self name program",
+        "Bench.step": "self name * times", "Bench.back": "self name * times", "Bench.moves": "self steps",
+        "Bench.close": "self name", "Bench.take_back": "self name", "Bench.base": "self", "Bench.state": "self",
+        "Bench.where": "self", "Bench.program": "self name", "Bench.count": "self", "Bench.__len__": "self",
+        "Bench.__contains__": "self x", "Bench.__eq__": "self other", "Bench.serial": "self name",
+        "Bench.set_pauses": "self name pauses", "Bench.set_count": "self count", "Bench.marks": "self",
+        "Bench.copy": "self"},
+    "granting": {"grants": "bench program", "let_in_with": "bench name program", "grant": "bench name place",
+                 "give_up": "bench name place"},
+    "marks": {"mark": "bench", "back_to": "bench number", "fork": "bench"},
+    "pages": {"page": "bench", "read_page": "text"},
     "rounds": {"round_states": "programs start rounds", "whole_way": "programs start rounds state",
                "rounds_part": "programs start rounds", "round_woven": "programs start rounds beginning"},
 }
@@ -56,7 +68,7 @@ SPECIAL = set("__init__ __eq__ __repr__ __str__ __len__ __contains__".split())
 NO_NAMES = set("register mro elements open input law version_info with_traceback add_note".split())
 BARRED = ("type", "typing", "enum", "Enum", "Flag", "Generic", "Protocol", "ABC", "namedtuple")
 BARRED_NODES = (
-    ast.Import, ast.GeneratorExp, ast.Try, ast.Global, ast.Nonlocal, ast.AsyncFunctionDef, ast.Await,
+    ast.Import, ast.GeneratorExp, ast.Global, ast.Nonlocal, ast.AsyncFunctionDef, ast.Await,
     ast.Div, ast.Set, ast.With, ast.Match, ast.NamedExpr, ast.AnnAssign, ast.Delete, ast.Pow)
 
 
@@ -194,6 +206,15 @@ class StatementsTest(unittest.TestCase):
     def test_what_is_not_used(self):
         for path, tree in trees():
             self.assertEqual([ast.dump(node) for node in nodes(tree, *BARRED_NODES)], [], path)
+
+    def test_only_own_errors_are_caught(self):
+        own = defined(ast.parse((PACKAGE / "errors.py").read_text(encoding="utf-8")))
+        for path, tree in trees():
+            for node in nodes(tree, ast.Try):
+                self.assertEqual((node.orelse, node.finalbody), ([], []), path)
+            for node in nodes(tree, ast.ExceptHandler):
+                self.assertIsNotNone(node.type, path)
+                self.assertLessEqual({name.id for name in nodes(node.type, ast.Name)}, own, path)
 
     def test_is(self):
         for path, tree in trees():
